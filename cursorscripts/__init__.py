@@ -1,0 +1,1 @@
+"""Commands for a cursor in a tree, and what they do to all trees."""
