@@ -477,12 +477,12 @@ class MirroredTest(unittest.TestCase):
 
 class LargeTest(unittest.TestCase):
     def test_scripts_of_eight_commands_and_states_of_sixty_nodes(self):
-        steps = ("left", ("else", ("up", "rise"), ("copy", "left")), "paste", "swap", ("wrapright", "z"))
+        steps = ("left", ("else", ("up", "rise"), ("copy", "left")), "paste", ("wrapright", "z"))
         for sides in (("left",), ("right",), ("left", "right")):
             tree = samples.chain(60, sides)
             for state in ((tree, (), ()), ((), samples.long_way(60, sides), ()), ((), (), tree)):
                 expected = state
-                for command in ("left", "copy", "left", "paste", "swap", ("wrapright", "z")):
+                for command in ("left", "copy", "left", "paste", ("wrapright", "z")):
                     expected = None if expected is None else by_places(command, expected)
                 self.assertEqual(run(steps, state), expected)
 
