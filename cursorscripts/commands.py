@@ -176,7 +176,8 @@ MIRROR_WORDS = {
 }
 
 
-def _is_simple(thing):
+def is_simple(thing):
+    """Whether thing is a command that holds no scripts."""
     if isinstance(thing, str):
         return thing in WORDS
     if not isinstance(thing, tuple) or len(thing) != 2:
@@ -185,7 +186,8 @@ def _is_simple(thing):
     return isinstance(word, str) and word in LABEL_WORDS and is_label(label)
 
 
-def _holds_scripts(thing):
+def holds_scripts(thing):
+    """Whether thing has the form of a command that holds scripts."""
     if not isinstance(thing, tuple):
         return False
     return (len(thing) == 3 and thing[0] == "else") or (len(thing) == 2 and thing[0] == "not")
@@ -193,8 +195,8 @@ def _holds_scripts(thing):
 
 def _check_command(thing):
     """None if thing is a command, otherwise what follows its number in check_script."""
-    if not _holds_scripts(thing):
-        return None if _is_simple(thing) else ()
+    if not holds_scripts(thing):
+        return None if is_simple(thing) else ()
     for number in range(1, len(thing)):
         problem = check_script(thing[number])
         if problem is not None:
@@ -213,13 +215,15 @@ def check_script(thing):
     return None
 
 
-def _need_script(thing):
+def need_script(thing):
+    """Raises InvalidScript if thing is no script."""
     problem = check_script(thing)
     if problem is not None:
         raise InvalidScript(problem)
 
 
-def _after_simple(command, focus, way, hand):
+def after_simple(command, focus, way, hand):
+    """What a command that holds no scripts makes of a state, or None if it fails."""
     if isinstance(command, str):
         work = WORDS[command]
         return work(focus, way, hand)
@@ -229,9 +233,9 @@ def _after_simple(command, focus, way, hand):
 
 
 def _after_command(command, state):
-    if not _holds_scripts(command):
+    if not holds_scripts(command):
         focus, way, hand = state
-        return _after_simple(command, focus, way, hand)
+        return after_simple(command, focus, way, hand)
     made = _after_script(command[1], state)
     if command[0] == "not":
         return state if made is None else None
@@ -248,7 +252,7 @@ def _after_script(steps, state):
 
 def run(steps, state):
     """The state that a script makes of a state, or None if it fails."""
-    _need_script(steps)
+    need_script(steps)
     if check_state(state) is not None:
         raise InvalidState(state)
     return _after_script(steps, state)
@@ -257,7 +261,7 @@ def run(steps, state):
 def _mirrored_command(command):
     if isinstance(command, str):
         return MIRROR_WORDS.get(command, command)
-    if _holds_scripts(command):
+    if holds_scripts(command):
         return (command[0],) + tuple([_mirrored_script(script) for script in command[1:]])
     return (MIRROR_WORDS.get(command[0], command[0]), command[1])
 
@@ -268,5 +272,5 @@ def _mirrored_script(steps):
 
 def mirrored(steps):
     """The mirror of a script."""
-    _need_script(steps)
+    need_script(steps)
     return _mirrored_script(steps)

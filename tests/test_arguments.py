@@ -6,8 +6,14 @@ import unittest
 import samples
 from cursorscripts.commands import check_script, mirrored, run
 from cursorscripts.errors import CursorError
+from cursorscripts.lists import both, check_list, done_by, either, list_of
+from cursorscripts.patterns import check_pattern, filled, fits, least_state, left_out, less, meet, unknowns
+from cursorscripts.rewritings import check_rewriting, done, follow, rewritings_of
 from cursorscripts.trees import check_state, is_tree, mirror_of, nodes_of, path_of, state_at, whole
 
+ANY = (("tree",), ("way",), ("tree",))
+PATTERN = ((("a",), ("tree",), ()), ("left", (), ("tree",), ("way",)), ("tree",))
+TURN = (ANY, (2, 1, 0))
 STATE = (("a", ("b", (), ()), ()), ("left", "c", ("d", (), ()), ()), ("e", (), ()))
 CALLS = (
     lambda x: is_tree(x), lambda x: check_state(x), lambda x: check_script(x), lambda x: nodes_of(x),
@@ -18,6 +24,19 @@ CALLS = (
     lambda x: run((), (x, (), ())), lambda x: run((), ((), x, ())), lambda x: run((), ((), (), x)),
     lambda x: check_state(((), ("left", "a", x, ()), ())), lambda x: check_state(((), (x, "a", (), ()), ())),
     lambda x: check_script((x,)), lambda x: check_script((("else", (x,), x),)), lambda x: check_script(((x, x),)),
+    check_pattern, unknowns, least_state, left_out, lambda x: left_out([x, ANY]), lambda x: left_out((ANY, x)),
+    lambda x: fits(x, STATE), lambda x: fits(PATTERN, x), lambda x: filled(x, ()), lambda x: filled(PATTERN, x),
+    lambda x: filled(PATTERN, ("b", x, "c", (), x, ())), lambda x: filled(PATTERN, (x, (), x, (), x, x)),
+    lambda x: meet(x, ANY), lambda x: meet(PATTERN, x), lambda x: less(x, ANY), lambda x: less(ANY, x),
+    lambda x: check_pattern((x, x, x)), lambda x: meet((x, ("way",), ()), (("tree",), ("way",), x)),
+    check_rewriting, lambda x: check_rewriting((PATTERN, x)), lambda x: check_rewriting((x, (0, 1, 2))),
+    lambda x: check_rewriting((PATTERN, (x, x, x))), lambda x: done(x, STATE), lambda x: done(TURN, x),
+    lambda x: done((ANY, (0, 1, x)), STATE), lambda x: follow(x, TURN), lambda x: follow(TURN, x), rewritings_of,
+    lambda x: rewritings_of(("put", x)), lambda x: rewritings_of((x, "a")),
+    list_of, lambda x: list_of(("up", x)), check_list, lambda x: check_list([TURN, x]), lambda x: check_list([(ANY, x)]),
+    lambda x: done_by(x, STATE), lambda x: done_by([TURN], x), lambda x: done_by([x], STATE),
+    lambda x: both(x, [TURN]), lambda x: both([TURN], x), lambda x: either(x, [TURN]), lambda x: either([TURN], x),
+    lambda x: either([x], [x]),
 )
 
 
@@ -31,7 +50,8 @@ def answer(call, thing):
 
 class ArgumentsTest(unittest.TestCase):
     def test_what_is_passed_stays_as_it_is(self):
-        good = [STATE, STATE[0], ("left", ("not", ("up",)), ("set", "x")), (), ["left", "left"], ("left",)]
+        good = [STATE, STATE[0], ("left", ("not", ("up",)), ("set", "x")), (), ["left", "left"], ("left",), PATTERN, ANY,
+                TURN, [TURN], [ANY, PATTERN], list_of(("rise",)), 3, ("b", (), "c", (), (), ())]
         for call in CALLS:
             for thing in samples.anything() + good:
                 passed = copy.deepcopy(thing)

@@ -1,12 +1,16 @@
 """The interface is defined where it is listed, and the files keep to the form asked of them."""
 
 import ast
+import builtins
 import inspect
 import pathlib
 import unittest
 
 import cursorscripts.commands
 import cursorscripts.errors
+import cursorscripts.lists
+import cursorscripts.patterns
+import cursorscripts.rewritings
 import cursorscripts.trees
 
 PACKAGE = pathlib.Path(cursorscripts.errors.__file__).parent
@@ -18,7 +22,25 @@ FUNCTIONS = {
     cursorscripts.commands: {
         "check_script": "(thing)", "run": "(steps, state)", "mirrored": "(steps)",
     },
+    cursorscripts.patterns: {
+        "check_pattern": "(thing)", "unknowns": "(pattern)", "fits": "(pattern, state)", "filled": "(pattern, things)",
+        "meet": "(pattern, other)", "less": "(pattern, other)", "least_state": "(pattern)", "left_out": "(patterns)",
+    },
+    cursorscripts.rewritings: {
+        "check_rewriting": "(thing)", "done": "(rewriting, state)", "follow": "(first, second)",
+        "rewritings_of": "(command)",
+    },
+    cursorscripts.lists: {
+        "list_of": "(steps)", "check_list": "(thing)", "done_by": "(rewritings, state)", "both": "(first, second)",
+        "either": "(first, second)",
+    },
 }
+BUILTINS = ("len", "range", "enumerate", "zip", "min", "max", "sum", "abs", "sorted", "reversed", "int", "str", "bool",
+            "bytes", "list", "tuple", "dict", "set", "frozenset", "isinstance", "ord", "repr", "any", "all", "divmod",
+            "ValueError", "KeyError", "True", "False", "None")
+METHODS = ("append", "clear", "count", "endswith", "extend", "find", "get", "index", "insert", "isalpha", "isascii",
+           "isdigit", "islower", "items", "join", "keys", "pop", "remove", "replace", "reverse", "setdefault", "split",
+           "startswith", "strip", "update", "values")
 LIBRARY = ("heapq", "math", "itertools", "collections")
 BARRED_NAMES = ("open", "input", "eval", "exec", "id", "hash", "type", "vars", "globals", "locals", "chr", "filter",
                 "round", "dir", "compile", "delattr", "help", "elements", "register", "law")
@@ -70,6 +92,42 @@ class FormTest(unittest.TestCase):
                     self.assertEqual(node.level, 0, path)
                     self.assertTrue(node.module.startswith("cursorscripts.") or node.module in LIBRARY, path)
                     self.assertNotIn("*", [name.name for name in node.names])
+
+    def test_builtins_are_the_few_and_no_other_name_is_theirs(self):
+        for path, tree in trees_of_files():
+            for node in ast.walk(tree):
+                if isinstance(node, ast.Name) and hasattr(builtins, node.id):
+                    self.assertIn(node.id, BUILTINS, path)
+                    self.assertIsInstance(node.ctx, ast.Load, node.id)
+                if isinstance(node, (ast.FunctionDef, ast.ClassDef)) and node.name != "__init__":
+                    self.assertFalse(hasattr(builtins, node.name), node.name)
+                if isinstance(node, ast.arg):
+                    self.assertFalse(hasattr(builtins, node.arg), node.arg)
+
+    def test_methods_are_the_few_or_own_ones(self):
+        files = trees_of_files()
+        own = {node.name for _, tree in files for node in ast.walk(tree) if isinstance(node, ast.FunctionDef)}
+        for path, tree in files:
+            for node in ast.walk(tree):
+                if isinstance(node, ast.Call) and isinstance(node.func, ast.Attribute):
+                    self.assertIn(node.func.attr, own.union(METHODS), path)
+
+    def test_no_import_is_unused_or_stands_for_something_else(self):
+        for path, tree in trees_of_files():
+            imported = [name.name for node in tree.body if isinstance(node, ast.ImportFrom) for name in node.names]
+            names = [node for node in ast.walk(tree) if isinstance(node, ast.Name)]
+            for name in imported:
+                self.assertEqual({node.ctx.__class__ for node in names if node.id == name}, {ast.Load}, (path, name))
+                self.assertNotIn(name, [node.arg for node in ast.walk(tree) if isinstance(node, ast.arg)], path)
+
+    def test_no_two_files_import_from_each_other(self):
+        imports = {f"cursorscripts.{path.stem}": [node.module for node in tree.body if isinstance(node, ast.ImportFrom)]
+                   for path, tree in trees_of_files()}
+        left = dict(imports)
+        while left:
+            free = [name for name, needed in left.items() if not any(module in left for module in needed)]
+            self.assertNotEqual(free, [], left)
+            left = {name: needed for name, needed in left.items() if name not in free}
 
     def test_nothing_that_is_barred(self):
         for path, tree in trees_of_files():
