@@ -68,9 +68,14 @@ def _facts_in(pattern):
     return facts_of(pattern)
 
 
+def kinds_of(facts):
+    """What each unknown of a pattern is, in order."""
+    return [kind_of(place) for place in unknown_places(facts)]
+
+
 def unknowns(pattern):
     """The list that tells of each unknown whether it is a "tree", a "way" or a "label"."""
-    return [kind_of(place) for place in unknown_places(_facts_in(pattern))]
+    return kinds_of(_facts_in(pattern))
 
 
 def fits(pattern, state):

@@ -3,8 +3,8 @@
 from cursorscripts.cells import cells_of
 from cursorscripts.commands import is_simple
 from cursorscripts.errors import InvalidCommand, InvalidRewriting, InvalidState
-from cursorscripts.facts import matched
-from cursorscripts.patterns import check_pattern, unknowns
+from cursorscripts.facts import facts_of, matched
+from cursorscripts.patterns import check_pattern, kinds_of
 from cursorscripts.rules import plain_rule, result_of, rewriting_of, rule_after, rule_of
 from cursorscripts.trees import check_state, is_label, is_side
 
@@ -57,7 +57,7 @@ def check_rewriting(thing):
     pattern, template = thing
     if check_pattern(pattern) is not None:
         return ("pattern",)
-    if not _is_template(template, unknowns(pattern)):
+    if not _is_template(template, kinds_of(facts_of(pattern))):
         return ("template",)
     return None
 

@@ -112,6 +112,26 @@ def do_list(rewritings, state):
     return made[0] if made else None
 
 
+def same(pattern):
+    """The rewriting that changes nothing, for the states that fit a pattern."""
+    numbers = iter(range(10 ** 6))
+
+    def label(part):
+        return part if isinstance(part, str) else next(numbers)
+
+    def tree(part):
+        if part == TREE:
+            return next(numbers)
+        return (label(part[0]), tree(part[1]), tree(part[2])) if part else ()
+
+    def way(part):
+        if part == WAY:
+            return next(numbers)
+        return (part[0], label(part[1]), tree(part[2]), way(part[3])) if part else ()
+
+    return (pattern, (tree(pattern[0]), way(pattern[1]), tree(pattern[2])))
+
+
 TREES = (TREE, (), ((), TREE, TREE), ("a", TREE, ()), (("a", "c"), (), TREE), ("b", ((), (), TREE), TREE))
 WAYS = (WAY, (), ("left", (), TREE, WAY), ("right", ("a",), (), WAY), ("left", "a", TREE, ()),
         ("right", "b", ("a", (), TREE), ("left", ("b",), TREE, WAY)))

@@ -4,9 +4,13 @@ import copy
 import unittest
 
 import samples
+from cursorscripts.alike import alike, check_list_of, fails, within, works
+from cursorscripts.back import back, check_back, check_clash, clash
 from cursorscripts.commands import check_script, mirrored, run
+from cursorscripts.counting import count_fits, count_states, count_works
 from cursorscripts.errors import CursorError
 from cursorscripts.lists import both, check_list, done_by, either, list_of
+from cursorscripts.making import script_of
 from cursorscripts.patterns import check_pattern, filled, fits, least_state, left_out, less, meet, unknowns
 from cursorscripts.rewritings import check_rewriting, done, follow, rewritings_of
 from cursorscripts.trees import check_state, is_tree, mirror_of, nodes_of, path_of, state_at, whole
@@ -37,6 +41,14 @@ CALLS = (
     lambda x: done_by(x, STATE), lambda x: done_by([TURN], x), lambda x: done_by([x], STATE),
     lambda x: both(x, [TURN]), lambda x: both([TURN], x), lambda x: either(x, [TURN]), lambda x: either([TURN], x),
     lambda x: either([x], [x]),
+    lambda x: alike(x, ()), lambda x: alike([TURN], x), lambda x: within(x, []), lambda x: within(("up",), x), fails, works,
+    lambda x: alike((x,), [x]), lambda x: check_list_of(x, [TURN]), lambda x: check_list_of(("trade",), x),
+    lambda x: check_list_of(("trade",), [x]), script_of, lambda x: script_of([TURN, x]), lambda x: script_of([(ANY, x)]),
+    lambda x: count_states(x, ("a",)), lambda x: count_states(2, x), lambda x: count_states(2, (x,)),
+    lambda x: count_fits(x, 2, ("a",)), lambda x: count_fits(ANY, x, x), lambda x: count_works(x, 2, ("a",)),
+    lambda x: count_works(("left",), 1, x), clash, back, lambda x: check_clash(("clear",), x), lambda x: check_clash(x, x),
+    lambda x: check_clash(("clear",), (STATE, x)), lambda x: check_back(x, [TURN]), lambda x: check_back(("trade",), x),
+    lambda x: check_back([TURN], [x]), lambda x: check_back(("trade",), [TURN, x]),
 )
 
 
@@ -69,6 +81,8 @@ class ArgumentsTest(unittest.TestCase):
     def test_questions_are_answered_by_true_and_false(self):
         for thing in samples.anything() + [STATE, STATE[0], ()]:
             self.assertIn(repr(is_tree(thing)), ("True", "False"))
+            self.assertIn(repr(check_clash(("clear",), thing)), ("True", "False"))
+            self.assertIn(repr(check_clash([TURN], (STATE, thing))), ("True", "False"))
 
 
 if __name__ == "__main__":

@@ -6,9 +6,13 @@ import inspect
 import pathlib
 import unittest
 
+import cursorscripts.alike
+import cursorscripts.back
 import cursorscripts.commands
+import cursorscripts.counting
 import cursorscripts.errors
 import cursorscripts.lists
+import cursorscripts.making
 import cursorscripts.patterns
 import cursorscripts.rewritings
 import cursorscripts.trees
@@ -33,6 +37,18 @@ FUNCTIONS = {
     cursorscripts.lists: {
         "list_of": "(steps)", "check_list": "(thing)", "done_by": "(rewritings, state)", "both": "(first, second)",
         "either": "(first, second)",
+    },
+    cursorscripts.alike: {
+        "alike": "(steps, other)", "within": "(steps, other)", "check_list_of": "(steps, thing)", "fails": "(steps)",
+        "works": "(steps)",
+    },
+    cursorscripts.making: {"script_of": "(rewritings)"},
+    cursorscripts.counting: {
+        "count_states": "(nodes, labels)", "count_fits": "(pattern, nodes, labels)",
+        "count_works": "(steps, nodes, labels)",
+    },
+    cursorscripts.back: {
+        "clash": "(steps)", "check_clash": "(steps, thing)", "back": "(steps)", "check_back": "(steps, thing)",
     },
 }
 BUILTINS = ("len", "range", "enumerate", "zip", "min", "max", "sum", "abs", "sorted", "reversed", "int", "str", "bool",

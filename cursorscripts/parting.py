@@ -1,0 +1,89 @@
+"""Least states for which two terms differ."""
+
+from cursorscripts.facts import (
+    ROOT, expanded, is_label_place, is_way_place, least_of, new_labels, nodes_in, themselves,
+)
+from cursorscripts.trees import nodes_of
+
+
+def _labels_of_term(state):
+    found = []
+    waiting = list(state)
+    while waiting:
+        here = waiting.pop()
+        if isinstance(here, str):
+            found.append(here)
+        elif len(here) > 1:
+            waiting.extend(here[-3:])
+    return found
+
+
+def _labels_of_facts(facts):
+    found = []
+    for fact in facts.values():
+        if isinstance(fact, str):
+            found.append(fact)
+        elif isinstance(fact, tuple):
+            found.extend(fact)
+    return found
+
+
+def _grown(things, place, label):
+    """The same things, with one node where nothing stood."""
+    thing = ("left", label, (), ()) if is_way_place(place) else (label, (), ())
+    return {**things, place: thing}
+
+
+def new_things(facts, used):
+    """Things for the unknowns in many ways: first as few nodes as possible, then one unknown after the other with one.
+
+    All labels are unlike each other and unlike those used, so that no two terms are equal by accident.
+    """
+    places = list(themselves(facts))
+    labels = new_labels(len(places) + 1, used)
+    least = {place: label if is_label_place(place) else () for place, label in zip(places, labels)}
+    grown = [_grown(least, place, labels[-1]) for place in places if not is_label_place(place)]
+    return [least] + grown
+
+
+def least_parting(facts, one, other):
+    """A state with as few nodes as any of which the facts are true and two terms differ; None if there is none."""
+    leaves = themselves(facts)
+    first, second = expanded(one, facts, leaves), expanded(other, facts, leaves)
+    if first == second:
+        return None
+    used = _labels_of_facts(facts) + _labels_of_term(first) + _labels_of_term(second)
+    for things in new_things(facts, used):
+        if expanded(first, facts, things) != expanded(second, facts, things):
+            return expanded(ROOT, facts, things)
+    return None
+
+
+class Least:
+    """The state with the fewest nodes of those that are offered."""
+
+    def __init__(self):
+        self.state = None
+        self.nodes = None
+
+    def is_late(self, facts):
+        """Whether no state of which the facts are true has fewer nodes."""
+        return self.nodes is not None and nodes_in(facts) >= self.nodes
+
+    def _take(self, state):
+        nodes = nodes_of(state)
+        if self.nodes is None or nodes < self.nodes:
+            self.state = state
+            self.nodes = nodes
+
+    def offer(self, facts):
+        """Offers the least state of which the facts are true."""
+        if not self.is_late(facts):
+            self._take(least_of(facts))
+
+    def offer_parting(self, facts, one, other):
+        """Offers the least state of which the facts are true and two terms differ, if there is one."""
+        if not self.is_late(facts):
+            state = least_parting(facts, one, other)
+            if state is not None:
+                self._take(state)
