@@ -2,39 +2,20 @@
 
 from cursorscripts.facts import ROOT, least_of
 from cursorscripts.lists import check_list, rules_in, rules_of, script_rules
-from cursorscripts.parting import Least
-from cursorscripts.rules import result_of
-from cursorscripts.sorting import Sorter, least_unfit, sorted_cases
+from cursorscripts.parting import Least, offer_unmade
+from cursorscripts.sorting import least_unfit
 
 
-def _offer_not_within(least, rules, others):
-    """Offers the states for which some rules work, and others fail or make another state."""
-    sorter = Sorter([rule[0] for rule in others])
-    for facts, state in rules:
-        if least.is_late(facts):
-            continue
-        for more, number, spots in sorted_cases(sorter, facts, ROOT):
-            if number is None:
-                least.offer(more)
-            else:
-                least.offer_parting(more, state, result_of(others[number], spots))
-
-
-def _offer_only_first(least, rules, others):
-    """Offers the states for which some rules work and others fail."""
-    sorter = Sorter([rule[0] for rule in others])
-    for facts, _ in rules:
-        if least.is_late(facts):
-            continue
-        for more, number, _ in sorted_cases(sorter, facts, ROOT):
-            if number is None:
-                least.offer(more)
+def _least_not_within(rules, others):
+    """The least state, as a Least, for which some rules work, and others fail or make another state."""
+    least = Least()
+    offer_unmade(least, [(facts, ROOT, state) for facts, state in rules], others)
+    return least
 
 
 def _parting_state(rules, others):
-    least = Least()
-    _offer_not_within(least, rules, others)
-    _offer_only_first(least, others, rules)
+    least = _least_not_within(rules, others)
+    offer_unmade(least, [(facts, ROOT, None) for facts, _ in others], rules)
     return least.state
 
 
@@ -47,9 +28,7 @@ def alike(steps, other):
 def within(steps, other):
     """None if the first script or list is within the second, otherwise a least state that shows that it is not."""
     rules, others = rules_in(steps), rules_in(other)
-    least = Least()
-    _offer_not_within(least, rules, others)
-    return least.state
+    return _least_not_within(rules, others).state
 
 
 def check_list_of(steps, thing):

@@ -4,9 +4,8 @@ from cursorscripts.clashing import clash_of, leaves_of, pattern_made
 from cursorscripts.errors import NoBack, NotOneToOne
 from cursorscripts.facts import ROOT, expanded, facts_of, matched, unknown_places
 from cursorscripts.lists import check_list, made_by, rules_in, rules_of
-from cursorscripts.parting import Least
-from cursorscripts.rules import result_of, rewriting_of
-from cursorscripts.sorting import Sorter, sorted_cases
+from cursorscripts.parting import Least, offer_unmade
+from cursorscripts.rules import rewriting_of
 from cursorscripts.trees import check_state
 
 
@@ -55,15 +54,7 @@ def back(steps):
 def _least_not_back(rules, others):
     """A least state for which some rules work, but others do not make it again of the result; None if there is none."""
     least = Least()
-    sorter = Sorter([rule[0] for rule in others])
-    for facts, state in rules:
-        if least.is_late(facts):
-            continue
-        for more, number, spots in sorted_cases(sorter, facts, state):
-            if number is None:
-                least.offer(more)
-            else:
-                least.offer_parting(more, ROOT, result_of(others[number], spots))
+    offer_unmade(least, [(facts, state, ROOT) for facts, state in rules], others)
     return least.state
 
 

@@ -1,8 +1,10 @@
-"""Least states for which two terms differ."""
+"""Least states for which two terms differ, or rules do not make what they should."""
 
 from cursorscripts.facts import (
     ROOT, expanded, is_label_place, is_way_place, least_of, new_labels, nodes_in, themselves,
 )
+from cursorscripts.rules import result_of
+from cursorscripts.sorting import Sorter, sorted_cases
 from cursorscripts.trees import nodes_of
 
 
@@ -87,3 +89,20 @@ class Least:
             state = least_parting(facts, one, other)
             if state is not None:
                 self._take(state)
+
+
+def offer_unmade(least, cases, rules):
+    """Offers the states for which the rules of a list do not make what they should.
+
+    A case is a tuple (facts, term, wanted): of this term the rules should make what is
+    wanted, for all states of which the facts are true. If it is None, they should just work.
+    """
+    sorter = Sorter([rule[0] for rule in rules])
+    for facts, term, wanted in cases:
+        if least.is_late(facts):
+            continue
+        for more, number, spots in sorted_cases(sorter, facts, term):
+            if number is None:
+                least.offer(more)
+            elif wanted is not None:
+                least.offer_parting(more, wanted, result_of(rules[number], spots))
