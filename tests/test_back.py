@@ -125,6 +125,32 @@ class ClashTest(unittest.TestCase):
         self.assertIsNotNone(self.check([equal, part]))
         self.check((("else", ("top", "trade", "empty", "trade", "copy"), ("inner", "copy", ("wrapleft", "a"))),))
 
+    def test_equal_trees_are_no_unlike_ones(self):
+        doubled = ((TREE, ("left", "a", (), ()), ()), (0, (), 0))
+        for focus, hand, good in (((), LEAF, True), (LEAF, ("b", (), ()), True), (LEAF, LEAF, False), ((), (), False),
+                                  (("a", LEAF, ()), ("a", (), LEAF), True), (("a", LEAF, ()), ("a", LEAF, ()), False)):
+            other = (((), (), ()), (focus, (), hand))
+            self.assertEqual(self.check([doubled, other]) is None, good)
+            self.assertEqual(self.check([other, doubled]) is None, good)
+
+    def test_equal_labels_of_which_one_is_barred(self):
+        for label, good in (("a", True), ("b", False)):
+            for one, other in (((0, (), ()), (label, (), ())), ((label, (), ()), (0, (), ()))):
+                bars = (((("a",), (), ()), (), ()), (one, (), other))
+                doubled = ((((), (), ()), ("left", "a", (), ()), ()), ((0, (), ()), (), (0, (), ())))
+                self.assertEqual(self.check([bars, doubled]) is None, good)
+                self.assertEqual(self.check([doubled, bars]) is None, good)
+
+    def test_lists_of_many_rewritings(self):
+        kept = [models.same(pattern) for pattern, _ in list_of(("rise",) * 5)]
+        self.assertEqual(len(kept), 32)
+        self.assertIsNone(self.check(kept))
+        self.assertIsNone(self.check(kept + [models.same(((), WAY, TREE))]))
+        for number in (0, 9, 31):
+            # The empty focus becomes what one of the others keeps.
+            made = (((), (), ()), works([kept[number]]))
+            self.assertIsNotNone(self.check(kept[:5] + [made] + kept[5:]))
+
     def test_wrong_steps(self):
         for wrong in WRONG + samples.anything():
             problem = check_list(wrong) if isinstance(wrong, list) else check_script(wrong)

@@ -111,6 +111,25 @@ class ScriptOfTest(unittest.TestCase):
         self.check(found, STATES[::9])
         self.check(found[::-1])
 
+    def test_patterns_two_of_which_are_told_apart_at_each_end(self):
+        # What one of three rewritings leaves open the two others have in common, but for the end of it.
+        def tree(end):
+            for _ in range(6):
+                end = (EIGHT, (), end)
+            return end
+
+        def way(end):
+            for _ in range(6):
+                end = ("left", EIGHT, (), end)
+            return end
+        leaf = ("a", (), ())
+        patterns = [(tree(()), WAY, tree(())), (tree(leaf), way(()), TREE), (TREE, way(("left", "a", (), ())), tree(leaf))]
+        r = random.Random(35)
+        found = [(pattern, models.random_template(r, 12, pattern)) for pattern in patterns]
+        self.assertIsNone(check_list(found))
+        self.assertLess(models.commands_in(self.check(found, STATES[::9])), 8000)
+        self.assertLess(models.commands_in(self.check(found[::-1])), 8000)
+
     def test_ends(self):
         steps = self.check([], STATES)
         self.assertEqual([state for state in STATES if run(steps, state) is not None], [])
