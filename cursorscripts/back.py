@@ -3,10 +3,10 @@
 from cursorscripts.clashing import clash_of, leaves_of, pattern_made
 from cursorscripts.errors import NoBack, NotOneToOne
 from cursorscripts.facts import ROOT, expanded, facts_of, matched, unknown_places
-from cursorscripts.lists import check_list, made_by, rules_in, rules_of
-from cursorscripts.parting import Least, offer_unmade
+from cursorscripts.lists import made_by, problem_and_rules, rules_in
+from cursorscripts.parting import Least, as_it_is, offer_unmade
 from cursorscripts.rules import rewriting_of
-from cursorscripts.trees import check_state
+from cursorscripts.trees import is_pair_of_states
 
 
 def clash(steps):
@@ -14,16 +14,10 @@ def clash(steps):
     return clash_of(rules_in(steps))
 
 
-def _is_pair_of_states(thing):
-    if not isinstance(thing, tuple) or len(thing) != 2:
-        return False
-    return check_state(thing[0]) is None and check_state(thing[1]) is None
-
-
 def check_clash(steps, thing):
     """Whether thing is a tuple of two unlike states of which a script or list makes one state."""
     rules = rules_in(steps)
-    if not _is_pair_of_states(thing) or thing[0] == thing[1]:
+    if not is_pair_of_states(thing) or thing[0] == thing[1]:
         return False
     made = made_by(rules, thing[0])
     return made is not None and made == made_by(rules, thing[1])
@@ -54,17 +48,16 @@ def back(steps):
 def _least_not_back(rules, others):
     """A least state for which some rules work, but others do not make it again of the result; None if there is none."""
     least = Least()
-    offer_unmade(least, [(facts, state, ROOT) for facts, state in rules], others)
+    offer_unmade(least, [(facts, state, ROOT) for facts, state in rules], others, as_it_is)
     return least.state
 
 
 def check_back(steps, thing):
     """None if thing is a list that leads back from a script or list, otherwise the first problem."""
     rules = rules_in(steps)
-    problem = check_list(thing)
+    problem, others = problem_and_rules(thing)
     if problem is not None:
         return problem
-    others = rules_of(thing)
     state = _least_not_back(rules, others)
     if state is not None:
         return ("script", state)

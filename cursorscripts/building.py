@@ -1,7 +1,8 @@
 """The script of one rule: it tests whether a state fits, and makes the rule's state of it."""
 
 from cursorscripts.facts import ROOT, expanded, is_unknown, themselves
-from cursorscripts.trees import node_with, other_side
+from cursorscripts.rules import folded
+from cursorscripts.trees import other_side
 
 # It stands in the nodes that are put around trees and taken away again, so any label will do.
 LABEL = "a"
@@ -37,17 +38,6 @@ def _way_tests(way, facts):
         if found:
             tests.extend([other_side(side)] + found + ["up"])
     return tests + ["top"] if way == () else tests
-
-
-def _folded(state):
-    """The tree from where the way of a term ends or is unknown, and the list of sides down to the cursor."""
-    tree, way, _ = state
-    sides = []
-    while len(way) == 4:
-        side, label, other, way = way
-        tree = node_with(side, label, tree, other)
-        sides.append(side)
-    return (tree, sides[::-1])
 
 
 class Builder:
@@ -139,8 +129,8 @@ def script_of_rule(rule):
     """A script that does what a rule does whose rewriting keeps the way."""
     facts, made = rule
     state = expanded(ROOT, facts, themselves(facts))
-    source = (LABEL, _folded(state)[0], state[2])
-    tree, sides = _folded(made)
+    source = (LABEL, folded(state)[0], state[2])
+    tree, _, sides = folded(made)
     builder = Builder(source, ())
     builder.commands.append(("wrapleft", LABEL))
     builder.build((LABEL, tree, made[2]), ("right",), ())

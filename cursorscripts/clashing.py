@@ -27,7 +27,7 @@ def pattern_made(rule):
     return expanded(state, {}, marks_of(facts))
 
 
-def _other_thing(place, facts):
+def other_thing(place, facts):
     """What may be at a place, and is not the least thing that may."""
     if is_label_place(place):
         return new_labels(2, facts.get(place, ()))[1]
@@ -41,7 +41,7 @@ def _clash_by_itself(rule):
     for place in unknown_places(facts):
         if place not in kept:
             things = least_things(facts)
-            others = {**things, place: _other_thing(place, facts)}
+            others = {**things, place: other_thing(place, facts)}
             return (expanded(ROOT, facts, things), expanded(ROOT, facts, others))
     return None
 

@@ -193,7 +193,7 @@ def holds_scripts(thing):
     return (len(thing) == 3 and thing[0] == "else") or (len(thing) == 2 and thing[0] == "not")
 
 
-def _check_command(thing):
+def check_command(thing):
     """None if thing is a command, otherwise what follows its number in check_script."""
     if not holds_scripts(thing):
         return None if is_simple(thing) else ()
@@ -209,7 +209,7 @@ def check_script(thing):
     if not isinstance(thing, tuple):
         return ()
     for number, command in enumerate(thing):
-        problem = _check_command(command)
+        problem = check_command(command)
         if problem is not None:
             return (number,) + problem
     return None
@@ -236,13 +236,14 @@ def _after_command(command, state):
     if not holds_scripts(command):
         focus, way, hand = state
         return after_simple(command, focus, way, hand)
-    made = _after_script(command[1], state)
+    made = state_after(command[1], state)
     if command[0] == "not":
         return state if made is None else None
-    return _after_script(command[2], state) if made is None else made
+    return state_after(command[2], state) if made is None else made
 
 
-def _after_script(steps, state):
+def state_after(steps, state):
+    """The state that what is known to be a script makes of a state, or None if it fails."""
     for command in steps:
         state = _after_command(command, state)
         if state is None:
@@ -255,7 +256,7 @@ def run(steps, state):
     need_script(steps)
     if check_state(state) is not None:
         raise InvalidState(state)
-    return _after_script(steps, state)
+    return state_after(steps, state)
 
 
 def _mirrored_command(command):

@@ -2,17 +2,13 @@
 
 from math import comb
 
-from cursorscripts.errors import InvalidCount, InvalidLabels, InvalidPattern
+from cursorscripts.counts import need_count
+from cursorscripts.errors import InvalidLabels, InvalidPattern
 from cursorscripts.facts import facts_of, is_label_place, is_way_place, nodes_in, unknown_places
 from cursorscripts.lists import rules_in
 from cursorscripts.patterns import are_ascending_labels, check_pattern
 
 MOST = 200
-
-
-def _need_count(nodes):
-    if not isinstance(nodes, int) or isinstance(nodes, bool) or not 0 <= nodes <= MOST:
-        raise InvalidCount(nodes)
 
 
 def _need_labels(labels):
@@ -62,7 +58,7 @@ def _count_facts(facts, nodes, labels):
 
 def count_states(nodes, labels):
     """The number of states with just so many nodes whose labels are all among labels."""
-    _need_count(nodes)
+    need_count(nodes, 0, MOST)
     _need_labels(labels)
     return _count_facts({}, nodes, labels)
 
@@ -71,7 +67,7 @@ def count_fits(pattern, nodes, labels):
     """The number of those of them that fit a pattern."""
     if check_pattern(pattern) is not None:
         raise InvalidPattern(pattern)
-    _need_count(nodes)
+    need_count(nodes, 0, MOST)
     _need_labels(labels)
     return _count_facts(facts_of(pattern), nodes, labels)
 
@@ -79,6 +75,6 @@ def count_fits(pattern, nodes, labels):
 def count_works(steps, nodes, labels):
     """The number of those of them for which a script or list works."""
     rules = rules_in(steps)
-    _need_count(nodes)
+    need_count(nodes, 0, MOST)
     _need_labels(labels)
     return sum([_count_facts(facts, nodes, labels) for facts, _ in rules])

@@ -1,12 +1,12 @@
 """Lists of rewritings of which at most one fits each state, and what scripts do as lists."""
 
 from cursorscripts.cells import cells_of
-from cursorscripts.commands import need_script
+from cursorscripts.commands import need_script, state_after
 from cursorscripts.errors import InvalidList, InvalidState
 from cursorscripts.facts import ROOT, matched
 from cursorscripts.meeting import first_meeting
-from cursorscripts.rewritings import check_rewriting
-from cursorscripts.rules import plain_rule, result_of, rewriting_of, rule_after, rule_of
+from cursorscripts.rewritings import looked_at
+from cursorscripts.rules import plain_rule, result_of, rewriting_of, rule_after, rule_of, rule_with
 from cursorscripts.sorting import Sorter, sorted_cases
 from cursorscripts.trees import check_state
 
@@ -22,33 +22,52 @@ def list_of(steps):
     return [rewriting_of(rule) for rule in script_rules(steps)]
 
 
+def _patterns_in(thing):
+    """The first problem of what should be a list and None, or None and what its patterns tell."""
+    if not isinstance(thing, list):
+        return (("form",), None)
+    found = []
+    for number, item in enumerate(thing):
+        problem, facts = looked_at(item)
+        if problem is not None:
+            return (("rewriting", number), None)
+        found.append(facts)
+    meeting = first_meeting(found)
+    return (None, found) if meeting is None else (("both", meeting[1], meeting[0]), None)
+
+
 def check_list(thing):
     """None if thing is a list of rewritings no two of which fit one state, otherwise the first problem."""
-    if not isinstance(thing, list):
-        return ("form",)
-    for number, item in enumerate(thing):
-        if check_rewriting(item) is not None:
-            return ("rewriting", number)
-    meeting = first_meeting([rule_of(rewriting)[0] for rewriting in thing])
-    return None if meeting is None else ("both", meeting[1], meeting[0])
+    return _patterns_in(thing)[0]
 
 
-def rules_of(rewritings):
-    """The rules of a list."""
-    return [rule_of(rewriting) for rewriting in rewritings]
+def problem_and_rules(thing):
+    """The first problem of what should be a list and None, or None and its rules."""
+    problem, many = _patterns_in(thing)
+    if problem is not None:
+        return (problem, None)
+    return (None, [rule_with(facts, item[1]) for facts, item in zip(many, thing)])
 
 
 def list_rules(thing):
     """The rules of a list; raises InvalidList."""
-    problem = check_list(thing)
+    problem, rules = problem_and_rules(thing)
     if problem is not None:
         raise InvalidList(problem)
-    return rules_of(thing)
+    return rules
 
 
 def rules_in(steps):
     """The rules of a script or list; raises InvalidScript or InvalidList."""
     return list_rules(steps) if isinstance(steps, list) else script_rules(steps)
+
+
+def need_steps(steps):
+    """Raises InvalidScript or InvalidList if steps are no script and no list."""
+    if isinstance(steps, list):
+        list_rules(steps)
+    else:
+        need_script(steps)
 
 
 def made_by(rules, state):
@@ -60,6 +79,13 @@ def made_by(rules, state):
     return None
 
 
+def made_of(steps, state):
+    """The state that what is known to be a script or list makes of a state, or None if it fails."""
+    if isinstance(steps, list):
+        return made_by([rule_of(rewriting) for rewriting in steps], state)
+    return state_after(steps, state)
+
+
 def done_by(rewritings, state):
     """The state that a list makes of a state, or None if it fails."""
     rules = list_rules(rewritings)
@@ -68,11 +94,16 @@ def done_by(rewritings, state):
     return made_by(rules, state)
 
 
+def rules_after(rules, then):
+    """The rules of a list that does what some rules do, and then what others do."""
+    made = [rule_after(rule, other) for rule in rules for other in then]
+    return [rule for rule in made if rule is not None]
+
+
 def both(first, second):
     """A list that does the first list and then the second."""
     rules, then = list_rules(first), list_rules(second)
-    made = [rule_after(rule, other) for rule in rules for other in then]
-    return [rewriting_of(rule) for rule in made if rule is not None]
+    return [rewriting_of(rule) for rule in rules_after(rules, then)]
 
 
 def either(first, second):

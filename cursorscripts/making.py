@@ -4,6 +4,7 @@ from cursorscripts.building import script_of_rule
 from cursorscripts.errors import Drops
 from cursorscripts.facts import EMPTY, NODE, SIDE_OF, is_way_place, unknown_places
 from cursorscripts.lists import list_rules
+from cursorscripts.rules import folded
 from cursorscripts.sorting import Sorter, answers_to
 from cursorscripts.trees import other_side
 
@@ -11,16 +12,10 @@ FAILING = (("not", ()),)
 SIDE_BY_LETTER = {"l": "left", "r": "right"}
 
 
-def _way_end(way):
-    while len(way) == 4:
-        way = way[3]
-    return way
-
-
 def _keeps_way(rule):
     facts, state = rule
     places = [place for place in unknown_places(facts) if is_way_place(place)]
-    return places == [] or _way_end(state[1]) == (places[0],)
+    return places == [] or folded(state)[1] == (places[0],)
 
 
 def _test(question, answer):

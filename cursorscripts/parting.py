@@ -48,10 +48,18 @@ def new_things(facts, used):
     return [least] + grown
 
 
-def least_parting(facts, one, other):
-    """A state with as few nodes as any of which the facts are true and two terms differ; None if there is none."""
+def as_it_is(state):
+    """The view in which states differ if they are not equal."""
+    return state
+
+
+def least_parting(facts, one, other, view):
+    """A state with as few nodes as any of which the facts are true and two terms differ; None if there is none.
+
+    A view tells what of a term is looked at, as a term.
+    """
     leaves = themselves(facts)
-    first, second = expanded(one, facts, leaves), expanded(other, facts, leaves)
+    first, second = view(expanded(one, facts, leaves)), view(expanded(other, facts, leaves))
     if first == second:
         return None
     used = _labels_of_facts(facts) + _labels_of_term(first) + _labels_of_term(second)
@@ -83,19 +91,20 @@ class Least:
         if not self.is_late(facts):
             self._take(least_of(facts))
 
-    def offer_parting(self, facts, one, other):
-        """Offers the least state of which the facts are true and two terms differ, if there is one."""
+    def offer_parting(self, facts, one, other, view):
+        """Offers the least state of which the facts are true and two terms differ in a view, if there is one."""
         if not self.is_late(facts):
-            state = least_parting(facts, one, other)
+            state = least_parting(facts, one, other, view)
             if state is not None:
                 self._take(state)
 
 
-def offer_unmade(least, cases, rules):
+def offer_unmade(least, cases, rules, view):
     """Offers the states for which the rules of a list do not make what they should.
 
-    A case is a tuple (facts, term, wanted): of this term the rules should make what is
-    wanted, for all states of which the facts are true. If it is None, they should just work.
+    A case is a tuple (facts, term, wanted): of this term the rules should make what is in
+    the view as what is wanted, for all states of which the facts are true. If it is None,
+    they should just work.
     """
     sorter = Sorter([rule[0] for rule in rules])
     for facts, term, wanted in cases:
@@ -105,4 +114,18 @@ def offer_unmade(least, cases, rules):
             if number is None:
                 least.offer(more)
             elif wanted is not None:
-                least.offer_parting(more, wanted, result_of(rules[number], spots))
+                least.offer_parting(more, wanted, result_of(rules[number], spots), view)
+
+
+def least_not_within(rules, others, view):
+    """The least state, as a Least, for which some rules work, and others fail or make what differs in the view."""
+    least = Least()
+    offer_unmade(least, [(facts, ROOT, state) for facts, state in rules], others, view)
+    return least
+
+
+def parting_state(rules, others, view):
+    """A least state for which some rules or others fail and not both do, or what they make differs in the view."""
+    least = least_not_within(rules, others, view)
+    offer_unmade(least, [(facts, ROOT, None) for facts, _ in others], rules, view)
+    return least.state

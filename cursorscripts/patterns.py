@@ -61,7 +61,7 @@ def check_pattern(thing):
     return None
 
 
-def _facts_in(pattern):
+def facts_in(pattern):
     """What a pattern tells; raises InvalidPattern."""
     if check_pattern(pattern) is not None:
         raise InvalidPattern(pattern)
@@ -75,12 +75,12 @@ def kinds_of(facts):
 
 def unknowns(pattern):
     """The list that tells of each unknown whether it is a "tree", a "way" or a "label"."""
-    return kinds_of(_facts_in(pattern))
+    return kinds_of(facts_in(pattern))
 
 
 def fits(pattern, state):
     """The tuple of what the unknowns of a pattern are in a state, or None if the state does not fit."""
-    facts = _facts_in(pattern)
+    facts = facts_in(pattern)
     if check_state(state) is not None:
         raise InvalidState(state)
     fit = matched(facts, state, {})
@@ -98,7 +98,7 @@ def _may_stand(thing, place, facts):
 
 def filled(pattern, things):
     """The state that is made of a pattern by putting things in the place of its unknowns."""
-    facts = _facts_in(pattern)
+    facts = facts_in(pattern)
     places = unknown_places(facts)
     if not isinstance(things, tuple) or len(things) != len(places):
         raise InvalidFilling(things)
@@ -110,14 +110,14 @@ def filled(pattern, things):
 
 def meet(pattern, other):
     """The pattern that just the states fit that fit both patterns, or None if there are none."""
-    facts, others = _facts_in(pattern), _facts_in(other)
+    facts, others = facts_in(pattern), facts_in(other)
     fit = matched(others, ROOT, facts)
     return None if fit is None else pattern_of(fit[0])
 
 
 def less(pattern, other):
     """Patterns that just the states fit that fit pattern and not other, no state fitting two of them."""
-    facts, others = _facts_in(pattern), _facts_in(other)
+    facts, others = facts_in(pattern), facts_in(other)
     if not may_meet(facts, others):
         return [pattern]
     found = []
@@ -135,12 +135,12 @@ def less(pattern, other):
 
 def least_state(pattern):
     """A state with as few nodes as any that fits a pattern."""
-    return least_of(_facts_in(pattern))
+    return least_of(facts_in(pattern))
 
 
 def left_out(patterns):
     """None if each state fits one of the patterns, otherwise a state with as few nodes as any that fits none."""
     if not isinstance(patterns, (list, tuple)):
         raise InvalidPattern(patterns)
-    facts = least_unfit([_facts_in(pattern) for pattern in patterns])
+    facts = least_unfit([facts_in(pattern) for pattern in patterns])
     return None if facts is None else least_of(facts)

@@ -5,7 +5,7 @@ from cursorscripts.commands import is_simple
 from cursorscripts.errors import InvalidCommand, InvalidRewriting, InvalidState
 from cursorscripts.facts import facts_of, matched
 from cursorscripts.patterns import check_pattern, kinds_of
-from cursorscripts.rules import plain_rule, result_of, rewriting_of, rule_after, rule_of
+from cursorscripts.rules import plain_rule, result_of, rewriting_of, rule_after, rule_with
 from cursorscripts.trees import check_state, is_label, is_side
 
 
@@ -50,23 +50,30 @@ def _is_template(thing, kinds):
     return _is_tree_template(focus, kinds) and _is_way_template(way, kinds) and _is_tree_template(hand, kinds)
 
 
-def check_rewriting(thing):
-    """None if thing is a rewriting, otherwise the first problem."""
+def looked_at(thing):
+    """The first problem of what should be a rewriting and None, or None and what its pattern tells."""
     if not isinstance(thing, tuple) or len(thing) != 2:
-        return ("form",)
+        return (("form",), None)
     pattern, template = thing
     if check_pattern(pattern) is not None:
-        return ("pattern",)
-    if not _is_template(template, kinds_of(facts_of(pattern))):
-        return ("template",)
-    return None
+        return (("pattern",), None)
+    facts = facts_of(pattern)
+    if not _is_template(template, kinds_of(facts)):
+        return (("template",), None)
+    return (None, facts)
+
+
+def check_rewriting(thing):
+    """None if thing is a rewriting, otherwise the first problem."""
+    return looked_at(thing)[0]
 
 
 def _rule_in(thing):
     """The rule that does what a rewriting does; raises InvalidRewriting."""
-    if check_rewriting(thing) is not None:
+    problem, facts = looked_at(thing)
+    if problem is not None:
         raise InvalidRewriting(thing)
-    return rule_of(thing)
+    return rule_with(facts, thing[1])
 
 
 def done(rewriting, state):

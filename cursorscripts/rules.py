@@ -5,14 +5,18 @@ state that its template makes, with (place,) for what is at a place of the patte
 """
 
 from cursorscripts.facts import expanded, facts_of, matched, pattern_of, themselves, unknown_places
+from cursorscripts.trees import node_with
+
+
+def rule_with(facts, template):
+    """The rule that does what a rewriting does of which the facts are the pattern."""
+    terms = [(place,) for place in unknown_places(facts)]
+    return (facts, expanded(template, {}, dict(list(enumerate(terms)))))
 
 
 def rule_of(rewriting):
     """The rule that does what a rewriting does."""
-    pattern, template = rewriting
-    facts = facts_of(pattern)
-    terms = [(place,) for place in unknown_places(facts)]
-    return (facts, expanded(template, {}, dict(list(enumerate(terms)))))
+    return rule_with(facts_of(rewriting[0]), rewriting[1])
 
 
 def plain_rule(facts, state):
@@ -39,3 +43,14 @@ def rule_after(first, second):
         return None
     facts, spots = fit
     return plain_rule(facts, result_of(second, spots))
+
+
+def folded(state):
+    """The tree of a term from where its way ends or is unknown, this end, and the sides from there to the cursor."""
+    tree, way, _ = state
+    sides = []
+    while len(way) == 4:
+        side, label, other, way = way
+        tree = node_with(side, label, tree, other)
+        sides.append(side)
+    return (tree, way, sides[::-1])

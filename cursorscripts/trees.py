@@ -64,6 +64,13 @@ def _need_state(thing):
         raise InvalidState(thing)
 
 
+def is_pair_of_states(thing):
+    """Whether thing is a tuple of two states."""
+    if not isinstance(thing, tuple) or len(thing) != 2:
+        return False
+    return check_state(thing[0]) is None and check_state(thing[1]) is None
+
+
 def other_side(side):
     """The side that is not this one."""
     return "right" if side == "left" else "left"
