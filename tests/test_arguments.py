@@ -6,19 +6,37 @@ import unittest
 import samples
 from cursorscripts.alike import alike, check_list_of, fails, within, works
 from cursorscripts.back import back, check_back, check_clash, clash
+from cursorscripts.before import before, sure
 from cursorscripts.commands import check_script, mirrored, run
 from cursorscripts.counting import count_fits, count_states, count_works
+from cursorscripts.desk import Desk
 from cursorscripts.errors import CursorError
+from cursorscripts.likeness import alike_in, within_in
 from cursorscripts.lists import both, check_list, done_by, either, list_of
 from cursorscripts.making import script_of
 from cursorscripts.patterns import check_pattern, filled, fits, least_state, left_out, less, meet, unknowns
+from cursorscripts.places import check_far, done_at, far, sent
+from cursorscripts.repeats import commute, repeats
 from cursorscripts.rewritings import check_rewriting, done, follow, rewritings_of
+from cursorscripts.search import shortest
 from cursorscripts.trees import check_state, is_tree, mirror_of, nodes_of, path_of, state_at, whole
+from cursorscripts.writing import list_text, read_list, read_script, script_text
 
 ANY = (("tree",), ("way",), ("tree",))
 PATTERN = ((("a",), ("tree",), ()), ("left", (), ("tree",), ("way",)), ("tree",))
 TURN = (ANY, (2, 1, 0))
 STATE = (("a", ("b", (), ()), ()), ("left", "c", ("d", (), ()), ()), ("e", (), ()))
+
+
+def on_a_desk(name, *arguments):
+    """What a method of a desk returns, and what the desk tells then."""
+    desk = Desk()
+    desk.put("a", STATE)
+    desk.do("a", ("copy",))
+    methods = {"put": desk.put, "drop": desk.drop, "do": desk.do, "state": desk.state, "leave_out": desk.leave_out}
+    return (methods[name](*arguments), desk.names(), desk.deeds(), [desk.state(kept) for kept in desk.names()])
+
+
 CALLS = (
     lambda x: is_tree(x), lambda x: check_state(x), lambda x: check_script(x), lambda x: nodes_of(x),
     lambda x: whole(x), lambda x: path_of(x), lambda x: mirror_of(x), lambda x: mirrored(x),
@@ -49,6 +67,21 @@ CALLS = (
     lambda x: count_works(("left",), 1, x), clash, back, lambda x: check_clash(("clear",), x), lambda x: check_clash(x, x),
     lambda x: check_clash(("clear",), (STATE, x)), lambda x: check_back(x, [TURN]), lambda x: check_back(("trade",), x),
     lambda x: check_back([TURN], [x]), lambda x: check_back(("trade",), [TURN, x]),
+    lambda x: commute(x, ("swap",)), lambda x: commute(("swap",), x), lambda x: commute(x, x), lambda x: repeats(x, 1),
+    lambda x: repeats(("swap",), x), lambda x: repeats(x, x), far, lambda x: far([x]), lambda x: check_far(x, x),
+    lambda x: check_far(("left",), x), lambda x: check_far([TURN], (STATE, x)), lambda x: done_at(x, (), ("swap",)),
+    lambda x: done_at(STATE[0], x, ("swap",)), lambda x: done_at(STATE[0], [x, "left"], [TURN]), lambda x: done_at(x, x, x),
+    lambda x: sent(x, ("left",)), lambda x: sent(("swap",), x), lambda x: sent((), ("left", x)), lambda x: sent(x, x),
+    lambda x: shortest(x, ["swap"], 2), lambda x: shortest(("full",), x, 1), lambda x: shortest(("full",), ["swap", x], 1),
+    lambda x: shortest((), (("put", x),), 1), lambda x: shortest(("full",), ["swap"], x), lambda x: shortest(x, x, x),
+    lambda x: before(x, PATTERN), lambda x: before(("left",), x), lambda x: before([TURN], (x, x, x)),
+    lambda x: sure(x, ("left",), ANY), lambda x: sure(ANY, x, PATTERN), lambda x: sure(ANY, [TURN], x), lambda x: sure(x, x, x),
+    lambda x: alike_in(x, (), ()), lambda x: alike_in("tree", x, ()), lambda x: alike_in("works", [TURN], x),
+    lambda x: within_in(x, x, x), lambda x: within_in("state", x, ("copy",)), lambda x: within_in("tree and hand", (), x),
+    script_text, lambda x: script_text(("up", x)), read_script, list_text, lambda x: list_text([x]), read_list,
+    lambda x: on_a_desk("put", x, STATE), lambda x: on_a_desk("put", "b", x), lambda x: on_a_desk("drop", x),
+    lambda x: on_a_desk("do", x, ()), lambda x: on_a_desk("do", "a", x), lambda x: on_a_desk("do", "a", ("copy", x)),
+    lambda x: on_a_desk("state", x), lambda x: on_a_desk("leave_out", x),
 )
 
 
@@ -63,7 +96,8 @@ def answer(call, thing):
 class ArgumentsTest(unittest.TestCase):
     def test_what_is_passed_stays_as_it_is(self):
         good = [STATE, STATE[0], ("left", ("not", ("up",)), ("set", "x")), (), ["left", "left"], ("left",), PATTERN, ANY,
-                TURN, [TURN], [ANY, PATTERN], list_of(("rise",)), 3, ("b", (), "c", (), (), ())]
+                TURN, [TURN], [ANY, PATTERN], list_of(("rise",)), 3, ("b", (), "c", (), (), ()), (STATE, STATE)]
+        good += ["a", "tree", "up [", "* | * | * -> 2 | 1 | 0", 0, 1, True, ["swap", "full"]]
         for call in CALLS:
             for thing in samples.anything() + good:
                 passed = copy.deepcopy(thing)
@@ -83,6 +117,8 @@ class ArgumentsTest(unittest.TestCase):
             self.assertIn(repr(is_tree(thing)), ("True", "False"))
             self.assertIn(repr(check_clash(("clear",), thing)), ("True", "False"))
             self.assertIn(repr(check_clash([TURN], (STATE, thing))), ("True", "False"))
+            self.assertIn(repr(check_far(("up",), thing)), ("True", "False"))
+            self.assertIn(repr(check_far([TURN], (STATE, thing))), ("True", "False"))
 
 
 if __name__ == "__main__":

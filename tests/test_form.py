@@ -8,14 +8,21 @@ import unittest
 
 import cursorscripts.alike
 import cursorscripts.back
+import cursorscripts.before
 import cursorscripts.commands
 import cursorscripts.counting
+import cursorscripts.desk
 import cursorscripts.errors
+import cursorscripts.likeness
 import cursorscripts.lists
 import cursorscripts.making
 import cursorscripts.patterns
+import cursorscripts.places
+import cursorscripts.repeats
 import cursorscripts.rewritings
+import cursorscripts.search
 import cursorscripts.trees
+import cursorscripts.writing
 
 PACKAGE = pathlib.Path(cursorscripts.errors.__file__).parent
 FUNCTIONS = {
@@ -50,7 +57,19 @@ FUNCTIONS = {
     cursorscripts.back: {
         "clash": "(steps)", "check_clash": "(steps, thing)", "back": "(steps)", "check_back": "(steps, thing)",
     },
+    cursorscripts.repeats: {"commute": "(steps, other)", "repeats": "(steps, most)"},
+    cursorscripts.places: {
+        "far": "(steps)", "check_far": "(steps, thing)", "done_at": "(tree, path, steps)", "sent": "(steps, path)",
+    },
+    cursorscripts.search: {"shortest": "(steps, commands, most)"},
+    cursorscripts.before: {"before": "(steps, pattern)", "sure": "(pattern, steps, other)"},
+    cursorscripts.likeness: {"alike_in": "(likeness, steps, other)", "within_in": "(likeness, steps, other)"},
+    cursorscripts.writing: {
+        "script_text": "(steps)", "read_script": "(text)", "list_text": "(rewritings)", "read_list": "(text)",
+    },
 }
+DESK = {"put": "(self, name, state)", "drop": "(self, name)", "do": "(self, name, steps)", "names": "(self)",
+        "state": "(self, name)", "deeds": "(self)", "leave_out": "(self, number)", "undo": "(self)"}
 BUILTINS = ("len", "range", "enumerate", "zip", "min", "max", "sum", "abs", "sorted", "reversed", "int", "str", "bool",
             "bytes", "list", "tuple", "dict", "set", "frozenset", "isinstance", "ord", "repr", "any", "all", "divmod",
             "ValueError", "KeyError", "True", "False", "None")
@@ -75,6 +94,15 @@ class InterfaceTest(unittest.TestCase):
             for name, arguments in functions.items():
                 self.assertEqual(defined.count(name), 1, name)
                 self.assertEqual(str(inspect.signature(getattr(module, name))), arguments, name)
+
+    def test_the_desk_has_its_methods_itself(self):
+        tree = ast.parse(pathlib.Path(cursorscripts.desk.__file__).read_text())
+        desk = [node for node in tree.body if isinstance(node, ast.ClassDef) and node.name == "Desk"][0]
+        defined = [node.name for node in desk.body if isinstance(node, ast.FunctionDef)]
+        for name, arguments in DESK.items():
+            self.assertEqual(defined.count(name), 1, name)
+            self.assertEqual(str(inspect.signature(vars(cursorscripts.desk.Desk)[name])), arguments, name)
+        self.assertEqual(str(inspect.signature(cursorscripts.desk.Desk)), "()")
 
 
 class FormTest(unittest.TestCase):
