@@ -14,6 +14,7 @@ from cursorscripts.errors import InvalidList, InvalidPath, InvalidScript, Invali
 from cursorscripts.lists import both, check_list, either, list_of
 from cursorscripts.making import script_of
 from cursorscripts.places import check_far, done_at, far, sent
+from cursorscripts.repeats import commute
 from cursorscripts.trees import check_state, nodes_of, state_at, whole
 from models import ANY, STATES, TREE, WAY
 from test_alike import WRONG_LISTS, WRONG_SCRIPTS, made_of
@@ -100,6 +101,22 @@ class FarTest(unittest.TestCase):
                 steps = (("else", steps[:2], steps[2:]),)
             local += self.check(steps) is None
         self.assertGreater(local, 300)
+
+    def test_local_scripts_are_those_for_which_way_and_hand_are_all_one(self):
+        # Told by other parts of the package, for all states: it does the same to the focus when way and hand are
+        # dropped, and way and hand are then what they are where it just works.
+        only_focus, without_focus = [(ANY, (0, (), ()))], [(ANY, ((), 1, 2))]
+        r = random.Random(85)
+        local = 0
+        for number in range(400):
+            steps = models.random_script(r, r.randint(1, 6))
+            steps = ("left",) + steps + ("up",) if number % 2 else (("else", ("inleft",) + steps, steps),)
+            works_there = list_of((("not", (("not", steps),)),))
+            expected = (commute(steps, only_focus) is None
+                        and alike(both(list_of(steps), without_focus), both(works_there, without_focus)) is None)
+            self.assertEqual(far(steps) is None, expected, steps)
+            local += expected
+        self.assertGreater(local, 100)
 
     def test_random_lists(self):
         r = random.Random(82)
